@@ -5,9 +5,9 @@ import (
 	"slices"
 	"testing"
 
-	"sandtable/api"
 	"sandtable/cut"
 	"sandtable/graph"
+	"sandtable/sample"
 )
 
 const (
@@ -15,49 +15,9 @@ const (
 	manyest = 4096    // things, and parts
 )
 
-// made is a graph of weights, and of joins, three numbers each.
-func made(t *testing.T, weights []int64, joins ...int64) *graph.Graph {
-	t.Helper()
-	g, e := graph.New(weights)
-	if e != api.OK {
-		t.Fatalf("%v: %d", weights, e)
-	}
-	for i := 0; i < len(joins); i += 3 {
-		if e := g.Join(int(joins[i]), int(joins[i+1]), joins[i+2]); e != api.OK {
-			t.Fatalf("%v: %d", joins[i:i+3], e)
-		}
-	}
-	return g
-}
-
-// ones is n weights of 1.
-func ones(n int) []int64 {
-	return slices.Repeat([]int64{1}, n)
-}
-
-// strangers are numbers that aren't from 0 to n - 1.
-func strangers(n int) []int {
-	return []int{-1, n, n + 1, -n - 1, -4096, 4096, 1 << 24, 1 << 32, 1 << 52, 1 << 62, math.MaxInt, math.MinInt}
-}
-
 // wrongCounts are no numbers of parts.
 func wrongCounts() []int {
 	return []int{0, -1, manyest + 1, -manyest, 1 << 32, 1<<32 + 2, math.MaxInt, math.MinInt}
-}
-
-// lists is all lists of n numbers from 0 to k - 1.
-func lists(n, k int) [][]int {
-	all := [][]int{{}}
-	for range n {
-		var longer [][]int
-		for _, list := range all {
-			for p := range k {
-				longer = append(longer, append(slices.Clone(list), p))
-			}
-		}
-		all = longer
-	}
-	return all
 }
 
 // plainCut is what the cut must be: each pair from both sides, halved.
@@ -157,17 +117,11 @@ func nothing(t *testing.T, g *graph.Graph, part []int, k int) {
 
 // P9.1, P9.2: all parts of all graphs of up to four things with 0, 1 or 5 between them.
 func TestEveryGraphAndParts(t *testing.T) {
-	between := []int64{0, 1, 5}
 	for n := range 5 {
-		for _, chosen := range lists(n*(n-1)/2, len(between)) {
-			g := made(t, []int64{4, 1, 3, 2}[:n])
-			for b := range n {
-				for a := range b {
-					g.Join(a, b, between[chosen[b*(b-1)/2+a]])
-				}
-			}
+		for _, which := range sample.Chosen(n*(n-1)/2, 0, 1, 5) {
+			g := sample.Between([]int64{4, 1, 3, 2}[:n], which)
 			for k := 1; k <= 3; k++ {
-				for _, part := range lists(n, k) {
+				for _, part := range sample.Lists(n, 0, k-1) {
 					same(t, g, part, k)
 				}
 			}
@@ -177,25 +131,21 @@ func TestEveryGraphAndParts(t *testing.T) {
 
 // P9.1, P9.2: greater graphs, made by a short rule.
 func TestMany(t *testing.T) {
-	state := uint32(9)
-	next := func(below int) int {
-		state = state*1664525 + 1013904223
-		return int(state>>8) % below
-	}
+	s := sample.Numbers(9)
 	for _, n := range []int{5, 12, 30} {
 		for round := range 12 {
 			var weights []int64
 			for range n {
-				weights = append(weights, int64(next(100)+1))
+				weights = append(weights, int64(s.Next(100)+1))
 			}
-			g := made(t, weights)
+			g := sample.Graph(weights)
 			for range n * round {
-				g.Join(next(n), next(n), int64(next(1<<20)+1)<<next(20))
+				g.Join(s.Next(n), s.Next(n), int64(s.Next(1<<20)+1)<<s.Next(20))
 			}
 			for _, k := range []int{1, 2, 3, n, n + 5} {
 				part := make([]int, n)
 				for i := range part {
-					part[i] = next(k)
+					part[i] = s.Next(k)
 				}
 				same(t, g, part, k)
 			}
@@ -206,7 +156,7 @@ func TestMany(t *testing.T) {
 // P9.1: as many things, and as many parts, as right ones need.
 func TestRightCounts(t *testing.T) {
 	for n := range 6 {
-		g := made(t, ones(n))
+		g := sample.Graph(sample.Ones(n))
 		for many := range 8 {
 			part := make([]int, many)
 			for _, k := range []int{1, 2, 3, manyest - 1, manyest} {
@@ -226,10 +176,10 @@ func TestRightCounts(t *testing.T) {
 
 // P9.1: a part that there isn't, wherever it stands, and ones at the bounds.
 func TestRightParts(t *testing.T) {
-	g := made(t, []int64{1, 2, 3, 4}, 0, 1, 7, 1, 2, 5, 0, 3, 2)
+	g := sample.Graph([]int64{1, 2, 3, 4}, 0, 1, 7, 1, 2, 5, 0, 3, 2)
 	for _, k := range []int{1, 2, 3, manyest} {
 		for at := range 4 {
-			for _, p := range append(strangers(k), 0, k-1) {
+			for _, p := range append(sample.Strangers(k), 0, k-1) {
 				part := make([]int, 4)
 				part[at] = p
 				if p < 0 || p >= k {
@@ -244,11 +194,11 @@ func TestRightParts(t *testing.T) {
 
 // P9.1: a thing or a part that there isn't gains nothing.
 func TestGainStrangers(t *testing.T) {
-	g := made(t, []int64{1, 2, 3, 4}, 0, 1, 7, 1, 2, 5, 0, 3, 2)
+	g := sample.Graph([]int64{1, 2, 3, 4}, 0, 1, 7, 1, 2, 5, 0, 3, 2)
 	part := []int{0, 1, 1, 0}
 	for _, k := range []int{2, 3, 5} {
-		for _, i := range append(strangers(4), 0, 1, 2, 3) {
-			for _, to := range append(strangers(k), 0, 1) {
+		for _, i := range append(sample.Strangers(4), 0, 1, 2, 3) {
+			for _, to := range append(sample.Strangers(k), 0, 1) {
 				if n := cut.Gain(g, part, k, i, to); n != 0 && (i < 0 || i > 3 || to < 0 || to >= k) {
 					t.Errorf("%d: Gain(%d, %d): %d", k, i, to, n)
 				}
@@ -262,7 +212,7 @@ func TestGainStrangers(t *testing.T) {
 
 // P9.1: a graph of nothing has right parts, and weighs nothing.
 func TestNothing(t *testing.T) {
-	g := made(t, nil)
+	g := sample.Graph(nil)
 	for _, part := range [][]int{nil, {}} {
 		for _, k := range []int{1, 2, manyest} {
 			if !cut.Right(g, part, k) || !cut.Fits(g, part, k) || cut.Cut(g, part, k) != 0 || cut.Bound(g, k) != 0 {
@@ -308,7 +258,7 @@ func TestBound(t *testing.T) {
 		{slices.Repeat([]int64{most}, manyest), manyest - 1, manyest*most/(manyest-1) + 1 + most},
 		{nil, 1, 0}, {nil, manyest, 0},
 	} {
-		g := made(t, c.weights)
+		g := sample.Graph(c.weights)
 		if n := cut.Bound(g, c.k); n != c.bound {
 			t.Errorf("%d weights, %d parts: %d; want %d", len(c.weights), c.k, n, c.bound)
 		}
@@ -332,7 +282,7 @@ func TestFits(t *testing.T) {
 		{[]int64{3, 3, 2, 2, 1, 1}, false},
 		{[]int64{3, 3, 3, 3, 1, 1}, false},
 	} {
-		g := made(t, c.weights)
+		g := sample.Graph(c.weights)
 		for _, heavy := range []int{0, 1} {
 			part := []int{heavy, heavy, heavy, heavy, 1 - heavy, 1 - heavy}
 			if cut.Fits(g, part, 2) != c.fits {
@@ -347,7 +297,7 @@ func TestFits(t *testing.T) {
 
 // star is a graph of n things, the last of which has the most that may be between it and each other one.
 func star(t *testing.T, n int) *graph.Graph {
-	g := made(t, slices.Repeat([]int64{most}, n))
+	g := sample.Graph(slices.Repeat([]int64{most}, n))
 	for i := range n - 1 {
 		g.Join(i, n-1, most)
 	}
@@ -384,7 +334,7 @@ func TestGreatest(t *testing.T) {
 
 // P2: the parts that are handed in, and the memory behind them, aren't turned, nor is the graph; weights are new memory.
 func TestNotTurned(t *testing.T) {
-	g := made(t, []int64{1, 2, 3}, 0, 1, 7, 1, 2, 5)
+	g := sample.Graph([]int64{1, 2, 3}, 0, 1, 7, 1, 2, 5)
 	memory := []int{0, 1, 1, 8, 9}
 	part := memory[:3]
 	first := cut.Weights(g, part, 2)
@@ -419,7 +369,7 @@ func plainEmpty(part []int, k int) []int {
 // P9.1: all short lists, with numbers that are no parts among them, and all that begin so.
 func TestEmpty(t *testing.T) {
 	for n := range 5 {
-		for _, part := range lists(n, 6) {
+		for _, part := range sample.Lists(n, 0, 5) {
 			for i := range part {
 				part[i]-- // from -1 to 4
 			}
@@ -487,7 +437,7 @@ func TestEmptyAsItWas(t *testing.T) {
 
 // The chapter's example.
 func TestExample(t *testing.T) {
-	g := made(t, []int64{1, 1}, 0, 1, 7)
+	g := sample.Graph([]int64{1, 1}, 0, 1, 7)
 	if n := cut.Cut(g, []int{0, 1}, 2); n != 7 {
 		t.Error(n)
 	}

@@ -6,45 +6,15 @@ import (
 	"slices"
 	"testing"
 
-	"sandtable/api"
 	"sandtable/graph"
 	"sandtable/pairing"
+	"sandtable/sample"
 )
 
 const (
 	most    = 1 << 40 // a weight, and what is between two
 	manyest = 4096    // things
 )
-
-// made is a graph of n things, and of joins, three numbers each.
-func made(t *testing.T, n int, joins ...int64) *graph.Graph {
-	t.Helper()
-	g, e := graph.New(slices.Repeat([]int64{1}, n))
-	if e != api.OK {
-		t.Fatalf("%d: %d", n, e)
-	}
-	for i := 0; i < len(joins); i += 3 {
-		if e := g.Join(int(joins[i]), int(joins[i+1]), joins[i+2]); e != api.OK {
-			t.Fatalf("%v: %d", joins[i:i+3], e)
-		}
-	}
-	return g
-}
-
-// lists is all lists of n numbers from low to high.
-func lists(n, low, high int) [][]int {
-	all := [][]int{{}}
-	for range n {
-		var longer [][]int
-		for _, list := range all {
-			for p := low; p <= high; p++ {
-				longer = append(longer, append(slices.Clone(list), p))
-			}
-		}
-		all = longer
-	}
-	return all
-}
 
 // plainHeavy is what Heavy must answer: by a table of who is left, from the last one down.
 func plainHeavy(g *graph.Graph) []int {
@@ -88,15 +58,9 @@ func heavy(t *testing.T, g *graph.Graph) {
 
 // P10.1, P10.2: all graphs of up to four things with 0, 1, 2 or the most there may be between them.
 func TestEveryGraph(t *testing.T) {
-	between := []int64{0, 1, 2, most}
 	for n := range 5 {
-		for _, chosen := range lists(n*(n-1)/2, 0, len(between)-1) {
-			g := made(t, n)
-			for b := range n {
-				for a := range b {
-					g.Join(b, a, between[chosen[b*(b-1)/2+a]])
-				}
-			}
+		for _, which := range sample.Chosen(n*(n-1)/2, 0, 1, 2, most) {
+			g := sample.Between(sample.Ones(n), which)
 			heavy(t, g)
 		}
 	}
@@ -104,16 +68,12 @@ func TestEveryGraph(t *testing.T) {
 
 // P10.1, P10.2: greater graphs, made by a short rule: with few unlike numbers, so that several have most, and with many.
 func TestMany(t *testing.T) {
-	state := uint32(10)
-	next := func(below int) int {
-		state = state*1664525 + 1013904223
-		return int(state>>8) % below
-	}
+	s := sample.Numbers(10)
 	for _, n := range []int{5, 9, 24, 70} {
 		for round := range 20 {
-			g := made(t, n)
+			g := sample.Graph(sample.Ones(n))
 			for range n * round / 4 {
-				g.Join(next(n), next(n), int64(next(2+round*round*round)+1))
+				g.Join(s.Next(n), s.Next(n), int64(s.Next(2+round*round*round)+1))
 			}
 			heavy(t, g)
 		}
@@ -126,16 +86,16 @@ func TestHeavy(t *testing.T) {
 		g    *graph.Graph
 		mate []int
 	}{
-		{made(t, 0), nil},
-		{made(t, 1), []int{0}},
-		{made(t, 3), []int{0, 1, 2}},
-		{made(t, 2, 0, 1, 1), []int{1, 0}},
-		{made(t, 3, 1, 2, 1), []int{0, 2, 1}},
-		{made(t, 3, 0, 2, 1, 1, 2, most), []int{2, 1, 0}},
-		{made(t, 4, 0, 3, 5, 0, 2, 5, 0, 1, 4), []int{2, 1, 0, 3}},
-		{made(t, 4, 0, 3, 6, 0, 2, 5, 0, 1, 4, 1, 3, 9, 1, 2, 1), []int{3, 2, 1, 0}},
-		{made(t, 5, 0, 2, 1, 1, 2, 9, 1, 4, 2, 3, 4, 8), []int{2, 4, 0, 3, 1}},
-		{made(t, 4, 2, 3, most, 1, 2, most-1, 0, 1, 1), []int{1, 0, 3, 2}},
+		{sample.Graph(sample.Ones(0)), nil},
+		{sample.Graph(sample.Ones(1)), []int{0}},
+		{sample.Graph(sample.Ones(3)), []int{0, 1, 2}},
+		{sample.Graph(sample.Ones(2), 0, 1, 1), []int{1, 0}},
+		{sample.Graph(sample.Ones(3), 1, 2, 1), []int{0, 2, 1}},
+		{sample.Graph(sample.Ones(3), 0, 2, 1, 1, 2, most), []int{2, 1, 0}},
+		{sample.Graph(sample.Ones(4), 0, 3, 5, 0, 2, 5, 0, 1, 4), []int{2, 1, 0, 3}},
+		{sample.Graph(sample.Ones(4), 0, 3, 6, 0, 2, 5, 0, 1, 4, 1, 3, 9, 1, 2, 1), []int{3, 2, 1, 0}},
+		{sample.Graph(sample.Ones(5), 0, 2, 1, 1, 2, 9, 1, 4, 2, 3, 4, 8), []int{2, 4, 0, 3, 1}},
+		{sample.Graph(sample.Ones(4), 2, 3, most, 1, 2, most-1, 0, 1, 1), []int{1, 0, 3, 2}},
 	} {
 		if mate := pairing.Heavy(c.g); !slices.Equal(mate, c.mate) {
 			t.Errorf("case %d: %v; want %v", i, mate, c.mate)
@@ -145,7 +105,7 @@ func TestHeavy(t *testing.T) {
 
 // P10.1: as many things as there may be, in a row, and around one.
 func TestGreatest(t *testing.T) {
-	row, around := made(t, manyest), made(t, manyest)
+	row, around := sample.Graph(sample.Ones(manyest)), sample.Graph(sample.Ones(manyest))
 	for i := range manyest - 1 {
 		row.Join(i, i+1, most)
 		around.Join(i, manyest-1, int64(i+1))
@@ -175,7 +135,7 @@ func TestNoGraph(t *testing.T) {
 
 // P2: the graph isn't turned, and what is answered is new memory.
 func TestHeavyIsNew(t *testing.T) {
-	g := made(t, 3, 0, 1, 3, 1, 2, 5)
+	g := sample.Graph(sample.Ones(3), 0, 1, 3, 1, 2, 5)
 	first := pairing.Heavy(g)
 	clear(first[:cap(first)])
 	if mate := pairing.Heavy(g); !slices.Equal(mate, []int{1, 0, 2}) {
@@ -241,7 +201,7 @@ func same(t *testing.T, mate []int) {
 func TestEveryList(t *testing.T) {
 	same(t, nil)
 	for n := range 6 {
-		for _, mate := range lists(n, -1, n) {
+		for _, mate := range sample.Lists(n, -1, n) {
 			same(t, mate)
 		}
 	}
@@ -322,7 +282,7 @@ func TestMatesAreNotTurned(t *testing.T) {
 
 // The chapter's example.
 func TestExample(t *testing.T) {
-	g := made(t, 3, 0, 1, 3, 1, 2, 5)
+	g := sample.Graph(sample.Ones(3), 0, 1, 3, 1, 2, 5)
 	if mate := pairing.Heavy(g); !slices.Equal(mate, []int{1, 0, 2}) {
 		t.Error(mate)
 	}
