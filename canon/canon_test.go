@@ -8,6 +8,7 @@ import (
 
 	"sandtable/api"
 	"sandtable/canon"
+	"sandtable/copies"
 	"sandtable/graph"
 	"sandtable/model"
 	"sandtable/sample"
@@ -25,7 +26,7 @@ func models() []api.Model {
 
 // twins is a model in which many things have the same names, and tell each other apart by something else.
 func twins(s *sample.Numbers, m api.Model) api.Model {
-	m = sample.Copy(m)
+	m = copies.Model(m)
 	names := []string{"", "a", "A", "\xff", "é", "a0", "a_"}
 	some := func() string { return names[s.Next(len(names))] }
 	for i, p := range m.Procs {
@@ -59,7 +60,7 @@ func laid[T any](list []T, above func(a, b T) bool) []T {
 
 // plain is what Canon must answer.
 func plain(m api.Model) api.Model {
-	m = sample.Copy(m)
+	m = copies.Model(m)
 	m.Procs = laid(m.Procs, func(a, b api.Proc) bool { return a.Name > b.Name })
 	for i, p := range m.Procs {
 		m.Procs[i].Vars = laid(p.Vars, func(a, b api.Var) bool { return a.Name > b.Name })
@@ -181,7 +182,7 @@ func TestSame(t *testing.T) {
 	some = append(some, some[0], some[len(some)/2])
 	for i, a := range some {
 		for _, b := range some[i:] {
-			if want := same(a, b); canon.Same(a, sample.Copy(b)) != want || canon.Same(b, a) != want {
+			if want := same(a, b); canon.Same(a, copies.Model(b)) != want || canon.Same(b, a) != want {
 				t.Fatalf("%#v and %#v: %v", a, b, !want)
 			}
 		}
@@ -232,7 +233,7 @@ func TestEveryOrder(t *testing.T) {
 		for _, links := range orders(3) {
 			for _, events := range orders(4) {
 				for _, vars := range orders(2) {
-					own := sample.Copy(m)
+					own := copies.Model(m)
 					own.Procs[1].Vars = by(own.Procs[1].Vars, vars)
 					own.Procs, own.Links, own.Events = by(own.Procs, procs), by(own.Links, links), by(own.Events, events)
 					if got := canon.Canon(own); !same(got, want) {
@@ -291,7 +292,7 @@ func TestModelIsLeft(t *testing.T) {
 		canon.Is(m)
 		canon.Same(m, other)
 		canon.Same(other, m)
-		canon.Same(m, sample.Copy(m))
+		canon.Same(m, copies.Model(m))
 		canon.Graph(m)
 		if now := sample.Behind(m); !reflect.DeepEqual(now, was) {
 			t.Fatalf("%#v; was %#v", now, was)
@@ -300,41 +301,6 @@ func TestModelIsLeft(t *testing.T) {
 			t.Fatalf("%#v: the other one", m)
 		}
 	}
-}
-
-// fill writes a number of its own, from first on, all over each list of a model, and the room behind it, but for the lists that its processes are in.
-func fill(m api.Model, first int64) {
-	own := first
-	for _, p := range m.Procs {
-		over(p.Vars, api.Var{Init: own})
-		over(p.Steps, api.Step{Kind: int(own) + 1})
-		own += 2
-	}
-	over(m.Links, api.Link{Delay: own})
-	over(m.Events, api.Event{At: own + 1})
-}
-
-func over[T any](list []T, x T) {
-	list = list[:cap(list)]
-	for i := range list {
-		list[i] = x
-	}
-}
-
-// filled tells whether each list is still as fill left it.
-func filled(m api.Model, first int64) bool {
-	own := first
-	for _, p := range m.Procs {
-		if !is(p.Vars, api.Var{Init: own}) || !is(p.Steps, api.Step{Kind: int(own) + 1}) {
-			return false
-		}
-		own += 2
-	}
-	return is(m.Links, api.Link{Delay: own}) && is(m.Events, api.Event{At: own + 1})
-}
-
-func is[T comparable](list []T, x T) bool {
-	return !slices.ContainsFunc(list[:cap(list)], func(y T) bool { return x != y })
 }
 
 // P16.1, P2: what is laid down is a copy, to the last list and the room behind it; no two of its lists share any, even if those of the model do.
@@ -346,18 +312,17 @@ func TestCanonIsACopy(t *testing.T) {
 		}
 		was := sample.Behind(m)
 		c := canon.Canon(m)
-		fill(c, 1)
-		if !filled(c, 1) {
+		sample.Fill(c, 1)
+		if !sample.Filled(c, 1) {
 			t.Fatalf("%#v: lists share memory", was)
 		}
-		over(c.Procs, api.Proc{Name: "over"})
+		sample.Spoil(c)
 		if now := sample.Behind(m); !reflect.DeepEqual(now, was) {
 			t.Fatalf("%#v; was %#v", now, was)
 		}
 		c = canon.Canon(m)
-		kept := sample.Copy(c)
-		fill(m, 1)
-		over(m.Procs, api.Proc{Name: "over"})
+		kept := copies.Model(c)
+		sample.Spoil(m)
 		if !same(c, kept) {
 			t.Fatalf("%#v: kept, what is handed in", was)
 		}

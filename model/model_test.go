@@ -8,6 +8,7 @@ import (
 	"testing"
 
 	"sandtable/api"
+	"sandtable/copies"
 	"sandtable/model"
 	"sandtable/sample"
 )
@@ -339,12 +340,12 @@ func TestRightWithout(t *testing.T) {
 	}
 	for _, m := range models {
 		for i := range m.Events {
-			own := sample.Copy(m)
+			own := copies.Model(m)
 			own.Events = slices.Delete(own.Events, i, i+1)
 			right(t, own)
 		}
 		for i, l := range m.Links {
-			own := sample.Copy(m)
+			own := copies.Model(m)
 			own.Links = slices.Delete(own.Links, i, i+1)
 			if sent := sender(m, l.Name); sent < 0 {
 				right(t, own)
@@ -472,30 +473,19 @@ func TestModelIsLeft(t *testing.T) {
 	}
 	m := sample.Model()
 	seq := model.Names(m)
-	wipe(m)
+	sample.Spoil(m)
 	if got := slices.Collect(seq); !slices.Equal(got, []string{"b", "x", "a", "y", "x", "value", "x", "a", "value"}) {
 		t.Errorf("written over behind the call: %q", got)
 	}
 	m = sample.Model()
 	var got []string
 	for s := range model.Names(m) {
-		wipe(m)
+		sample.Spoil(m)
 		got = append(got, s)
 	}
 	if !slices.Equal(got, []string{"b", "x", "a", "y", "x", "value", "x", "a", "value"}) {
 		t.Errorf("written over on the way: %q", got)
 	}
-}
-
-// wipe writes all lists of a model over.
-func wipe(m api.Model) {
-	for _, p := range m.Procs {
-		clear(p.Vars)
-		clear(p.Steps)
-	}
-	clear(m.Procs)
-	clear(m.Links)
-	clear(m.Events)
 }
 
 // The chapter's example.

@@ -8,6 +8,7 @@ import (
 
 	"sandtable/api"
 	"sandtable/canon"
+	"sandtable/copies"
 	"sandtable/model"
 	"sandtable/read"
 	"sandtable/sample"
@@ -103,7 +104,7 @@ func models() []api.Model {
 	all := []api.Model{sample.Model(), {}, {Version: 3}, {Version: -num}}
 	for s := range sample.Numbers(150) {
 		m := s.Model(1+s.Next(3), s.Next(6), s.Next(6), s.Next(6))
-		all = append(all, m, named(&s, sample.Copy(m)), numbered(&s, sample.Copy(m)), numbered(&s, named(&s, sample.Copy(m))))
+		all = append(all, m, named(&s, copies.Model(m)), numbered(&s, copies.Model(m)), numbered(&s, named(&s, copies.Model(m))))
 	}
 	return all
 }
@@ -412,17 +413,6 @@ func TestNoMoreIsMade(t *testing.T) {
 	}
 }
 
-// wipe writes a model's lists over, and the room behind them.
-func wipe(m api.Model) {
-	for _, p := range m.Procs {
-		clear(p.Vars[:cap(p.Vars)])
-		clear(p.Steps[:cap(p.Steps)])
-	}
-	clear(m.Procs[:cap(m.Procs)])
-	clear(m.Links[:cap(m.Links)])
-	clear(m.Events[:cap(m.Events)])
-}
-
 // P2: what is answered is new memory, which no other answer shares, and no other list of it.
 func TestAnswersAreNew(t *testing.T) {
 	s := sample.Numbers(1)
@@ -430,7 +420,7 @@ func TestAnswersAreNew(t *testing.T) {
 	text, _ := s.Spread(s.Tokens(want))
 	a, _ := read.Parse(text)
 	b, _ := read.Parse(text)
-	wipe(a)
+	sample.Spoil(a)
 	if !canon.Same(b, want) {
 		t.Errorf("%+v; want %+v", b, want)
 	}
@@ -451,7 +441,7 @@ func TestAnswersAreNew(t *testing.T) {
 			if !canon.Same(m, want) {
 				t.Fatalf("%+v; want %+v", m, want)
 			}
-			wipe(m)
+			sample.Spoil(m)
 			n++
 		}
 	}

@@ -7,6 +7,7 @@ import (
 	"strings"
 
 	"sandtable/api"
+	"sandtable/copies"
 )
 
 // Model is a right model of version 3: each kind of step and of argument, links to and fro and to oneself, names that stand for several things, nothing in the order of its name or time.
@@ -32,47 +33,6 @@ func Model() api.Model {
 		},
 		Events: []api.Event{{To: "b", At: 1, Value: 2}, {To: "a", At: 1, Value: 7}, {To: "a", At: 0, Value: 7}, {To: "a", At: 1, Value: -7}},
 	}
-}
-
-// Copy is a model with memory of its own, to the last list.
-func Copy(m api.Model) api.Model {
-	m.Procs = slices.Clone(m.Procs)
-	m.Links = slices.Clone(m.Links)
-	m.Events = slices.Clone(m.Events)
-	for i, p := range m.Procs {
-		m.Procs[i].Vars = slices.Clone(p.Vars)
-		m.Procs[i].Steps = slices.Clone(p.Steps)
-	}
-	return m
-}
-
-// Roomy is a copy of a model whose lists have room behind them, in which something stands.
-func Roomy(m api.Model) api.Model {
-	m = Copy(m)
-	for i, p := range m.Procs {
-		m.Procs[i].Vars = roomy(p.Vars, api.Var{Name: "behind", Init: 1})
-		m.Procs[i].Steps = roomy(p.Steps, api.Step{Kind: api.Put, Name: "behind"})
-	}
-	m.Procs = roomy(m.Procs, api.Proc{Name: "behind", Weight: 1})
-	m.Links = roomy(m.Links, api.Link{Name: "behind", Delay: 1})
-	m.Events = roomy(m.Events, api.Event{To: "behind", At: 1})
-	return m
-}
-
-func roomy[T any](list []T, x T) []T {
-	return append(list, x)[:len(list)]
-}
-
-// Behind is a copy of a model's lists with what stands in the room behind them.
-func Behind(m api.Model) api.Model {
-	m.Procs = slices.Clone(m.Procs[:cap(m.Procs)])
-	for i, p := range m.Procs {
-		m.Procs[i].Vars = p.Vars[:cap(p.Vars)]
-		m.Procs[i].Steps = p.Steps[:cap(p.Steps)]
-	}
-	m.Links = m.Links[:cap(m.Links)]
-	m.Events = m.Events[:cap(m.Events)]
-	return Copy(m)
 }
 
 // Names is n right names, no two the same; some begin as others do, and they stand in no order.
@@ -176,7 +136,7 @@ func mix[T any](s *Numbers, list []T) {
 
 // Mix is a model with its declarations, and its processes' variables, in another order.
 func (s *Numbers) Mix(m api.Model) api.Model {
-	m = Copy(m)
+	m = copies.Model(m)
 	mix(s, m.Procs)
 	mix(s, m.Links)
 	mix(s, m.Events)
@@ -238,7 +198,7 @@ func (t *turner) step(at func(*api.Model) *api.Step) {
 // set adds the model with each of some values in a field that hasn't it.
 func set[T comparable](t *turner, field func(*api.Model) *T, values ...T) {
 	for _, v := range values {
-		own := Copy(t.m)
+		own := copies.Model(t.m)
 		if *field(&own) == v {
 			continue
 		}
@@ -250,7 +210,7 @@ func set[T comparable](t *turner, field func(*api.Model) *T, values ...T) {
 // lists adds the model with a list of it turned.
 func lists[T any](t *turner, field func(*api.Model) *[]T) {
 	add := func(turn func(list []T) []T) {
-		own := Copy(t.m)
+		own := copies.Model(t.m)
 		*field(&own) = turn(*field(&own))
 		t.all = append(t.all, own)
 	}

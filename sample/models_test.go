@@ -1,7 +1,6 @@
 package sample_test
 
 import (
-	"reflect"
 	"slices"
 	"testing"
 
@@ -74,28 +73,5 @@ func TestTurned(t *testing.T) {
 	}
 	if right < 50 || wrong < 200 || !canon.Same(m, sample.Model()) {
 		t.Errorf("%d, %d", right, wrong)
-	}
-}
-
-func TestCopies(t *testing.T) {
-	m := sample.Model()
-	own := sample.Copy(m)
-	own.Procs[1].Vars[0].Init, own.Procs[1].Steps[0].Kind, own.Links[0].Delay, own.Events[0].At = 9, 9, 9, 9
-	own.Procs[0].Name = "q"
-	if !reflect.DeepEqual(m, sample.Model()) || reflect.DeepEqual(m, own) {
-		t.Errorf("%#v", m)
-	}
-	roomy := sample.Roomy(m)
-	if !canon.Same(roomy, m) || !reflect.DeepEqual(m, sample.Model()) {
-		t.Errorf("%#v", roomy)
-	}
-	all := sample.Behind(roomy)
-	was := sample.Copy(all)
-	if len(all.Procs) <= 3 || len(all.Links) <= 3 || len(all.Events) <= 4 || all.Procs[3].Name != "behind" || len(all.Procs[1].Vars) <= 2 || len(all.Procs[1].Steps) <= 3 {
-		t.Fatalf("%#v", all)
-	}
-	roomy.Procs[1].Vars[:3][2].Init = 9
-	if !reflect.DeepEqual(all, was) || reflect.DeepEqual(sample.Behind(roomy), was) {
-		t.Error("what stands behind isn't seen")
 	}
 }
