@@ -10,6 +10,7 @@ import (
 
 	"sandtable/api"
 	"sandtable/digest"
+	"sandtable/sample"
 )
 
 // polys are polynomials that are used, and some that nobody would.
@@ -17,13 +18,8 @@ var polys = []uint32{digest.Usual, crc32.Castagnoli, crc32.Koopman, 0, 1, 0x8000
 
 // some is so many bytes, by a short rule.
 func some(n int) []byte {
-	b := make([]byte, n)
-	state := uint32(n)
-	for i := range b {
-		state = state*1664525 + 1013904223
-		b[i] = byte(state >> 24)
-	}
-	return b
+	s := sample.Numbers(n)
+	return s.Bytes(n)
 }
 
 // told is a sum by the chapter's words, bit by bit, without a table.
@@ -245,25 +241,11 @@ func TestSealedIsUnsealed(t *testing.T) {
 	}
 }
 
-// burst turns bits of bytes, those of pattern from a bit on; a byte's bits follow one another from its lowest one on, as the sum takes them.
-func burst(b []byte, from int, pattern uint32) {
-	for i := range 32 {
-		if at := from + i; pattern>>i&1 == 1 && at < 8*len(b) {
-			b[at/8] ^= 1 << (at % 8)
-		}
-	}
-}
-
-// turned holds that sealed bytes with something turned from a bit on aren't unsealed, and that they are again with it turned back.
-func turned(t *testing.T, sealed []byte, from int, pattern uint32) {
+// turned holds that sealed bytes aren't unsealed with something turned.
+func turned(t *testing.T, sealed, b []byte) {
 	t.Helper()
-	b := bytes.Clone(sealed)
-	burst(b, from, pattern)
-	if slices.Equal(b, sealed) {
-		return
-	}
 	if got, e := digest.Unseal(b); len(got) != 0 || e != api.ErrSum {
-		t.Errorf("%x with %x turned from bit %d on: %x, %d", sealed, pattern, from, got, e)
+		t.Errorf("%x turned into %x: %x, %d", sealed, b, got, e)
 	}
 }
 
@@ -272,11 +254,8 @@ func TestFewBitsTurned(t *testing.T) {
 	for _, k := range []int{0, 1, 2, 5, 30} {
 		sealed := digest.Seal(some(k))
 		for from := range 8 * len(sealed) {
-			turned(t, sealed, from, 1)
-			for width := 2; width <= 8; width++ {
-				for inner := range uint32(1) << (width - 2) {
-					turned(t, sealed, from, 1|inner<<1|1<<(width-1))
-				}
+			for pattern := uint32(1); pattern < 256; pattern += 2 {
+				turned(t, sealed, sample.Burst(sealed, from, pattern))
 			}
 		}
 	}
@@ -284,18 +263,10 @@ func TestFewBitsTurned(t *testing.T) {
 
 // P4.2: with something turned within 32 bits that follow one another, at every place, across the sum's beginning too, nothing is unsealed.
 func TestManyBitsTurned(t *testing.T) {
-	patterns := []uint32{0xFFFFFFFF, 0x80000001, 0xFFFF0001, digest.Usual, digest.Usual | 1, 0xDEADBEEF, 0xAAAAAAAB, 0x82608EDB}
-	state := uint32(7)
-	for range 60 {
-		state = state*1664525 + 1013904223
-		patterns = append(patterns, state|1)
-	}
 	for _, k := range []int{0, 1, 4, 11, 60} {
 		sealed := digest.Seal(some(k))
-		for from := range 8 * len(sealed) {
-			for _, pattern := range patterns {
-				turned(t, sealed, from, pattern)
-			}
+		for b := range sample.Bursts(sealed) {
+			turned(t, sealed, b)
 		}
 	}
 }
@@ -307,9 +278,7 @@ func TestNoTurnIsMissed(t *testing.T) {
 	for from := range 8*len(b) - 31 {
 		var apart []uint32
 		for i := range 32 {
-			other := bytes.Clone(b)
-			burst(other, from+i, 1)
-			left := x.Sum(b) ^ x.Sum(other)
+			left := x.Sum(b) ^ x.Sum(sample.Burst(b, from+i, 1))
 			for _, n := range apart {
 				left = min(left, left^n)
 			}

@@ -161,25 +161,8 @@ func TestLineEnds(t *testing.T) {
 func TestLinesAgain(t *testing.T) {
 	m := sample.Model()
 	want := lines(plain(m))
-	seq := show.Lines(m)
-	for stop := 1; stop <= len(want)+1; stop++ {
-		var got []string
-		seq(func(line string) bool {
-			got = append(got, line)
-			return len(got) < stop
-		})
-		if !slices.Equal(got, want[:min(stop, len(want))]) {
-			t.Errorf("stopped at %d: %q", stop, got)
-		}
-	}
-	rounds := 0
-	for range seq {
-		for range seq {
-			rounds++
-		}
-	}
-	if rounds != len(want)*len(want) {
-		t.Errorf("%d rounds within rounds", rounds)
+	if !sample.Gone(show.Lines(m), want) {
+		t.Errorf("not %q", want)
 	}
 }
 

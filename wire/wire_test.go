@@ -10,6 +10,7 @@ import (
 	"testing"
 
 	"sandtable/api"
+	"sandtable/sample"
 	"sandtable/wire"
 )
 
@@ -457,17 +458,7 @@ func opEnd() op {
 
 // someBytes are all texts of up to so many bytes of a few kinds.
 func someBytes(longest int) []string {
-	list := []string{""}
-	for from, k := 0, 0; k < longest; k++ {
-		to := len(list)
-		for _, s := range list[from:to] {
-			for _, c := range []byte{0, 1, 2, 3, 0x80, 0x82} {
-				list = append(list, s+string([]byte{c}))
-			}
-		}
-		from = to
-	}
-	return list
+	return sample.Texts(longest, "\x00", "\x01", "\x02", "\x03", "\x80", "\x82")
 }
 
 // follow reads ops of bytes, and holds each against the model.
