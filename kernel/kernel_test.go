@@ -9,7 +9,6 @@ import (
 
 	"sandtable/api"
 	"sandtable/canon"
-	"sandtable/copies"
 	"sandtable/kernel"
 	"sandtable/model"
 	"sandtable/sample"
@@ -52,31 +51,12 @@ func event(to string, at, value int64) api.Event {
 	return api.Event{To: to, At: at, Value: value}
 }
 
-// gentle is a model with small numbers, which runs for long before one goes round.
-func gentle(s *sample.Numbers, m api.Model) api.Model {
-	m = copies.Model(m)
-	for _, p := range m.Procs {
-		for i := range p.Vars {
-			p.Vars[i].Init = int64(s.Next(7)) - 3
-		}
-		for i, step := range p.Steps {
-			if step.Kind == api.Mul {
-				p.Steps[i].Arg = api.Arg{N: int64(s.Next(4)) - 2}
-			}
-			if step.Arg.Kind == api.Number {
-				p.Steps[i].Arg.N %= 4
-			}
-		}
-	}
-	return m
-}
-
 // models are right models of version 3, of all kinds and in no order.
 func models() []api.Model {
 	all := []api.Model{{Version: 3}, {Version: 3, Procs: []api.Proc{}, Links: []api.Link{}, Events: []api.Event{}}, sample.Model(), crowd(300, 2)}
 	for s := range sample.Numbers(300) {
 		m := s.Model(3, s.Next(9), s.Next(20), s.Next(12))
-		all = append(all, m, gentle(&s, m))
+		all = append(all, m, s.Gentle(m))
 	}
 	return all
 }
@@ -556,7 +536,7 @@ func TestApart(t *testing.T) {
 // P27.1: the most processes, links and events that there may be.
 func TestGreat(t *testing.T) {
 	s := sample.Numbers(5)
-	m := gentle(&s, s.Model(3, 4096, 16384, 4096))
+	m := s.Gentle(s.Model(3, 4096, 16384, 4096))
 	b := pairUp(t, m)
 	for range 3 {
 		b.all(100, without)

@@ -146,6 +146,25 @@ func (s *Numbers) Mix(m api.Model) api.Model {
 	return m
 }
 
+// Gentle is a model with small numbers, which runs for long before one goes round.
+func (s *Numbers) Gentle(m api.Model) api.Model {
+	m = copies.Model(m)
+	for _, p := range m.Procs {
+		for i := range p.Vars {
+			p.Vars[i].Init = int64(s.Next(7)) - 3
+		}
+		for i, step := range p.Steps {
+			if step.Kind == api.Mul {
+				p.Steps[i].Arg = api.Arg{N: int64(s.Next(4)) - 2}
+			}
+			if step.Arg.Kind == api.Number {
+				p.Steps[i].Arg.N %= 4
+			}
+		}
+	}
+	return m
+}
+
 // Turned is models, most of them wrong, that are each one thing away from m: a field is another one, near a bound or beyond it, or something is left out, stands twice, or trades places with the next one.
 func Turned(m api.Model) []api.Model {
 	t := turner{m: m}

@@ -32,6 +32,9 @@ func TestModels(t *testing.T) {
 		if mixed := s.Mix(m); !canon.Same(canon.Canon(mixed), canon.Canon(m)) {
 			t.Fatalf("%#v: %#v", m, mixed)
 		}
+		if gentle := s.Gentle(m); model.Check(gentle) != (api.Fault{}) || len(gentle.Procs) != procs {
+			t.Fatalf("%#v: %#v", m, gentle)
+		}
 		for _, p := range m.Procs {
 			for _, step := range p.Steps {
 				steps[[2]int{step.Kind, step.Arg.Kind}]++
